@@ -1,0 +1,1 @@
+"""Feedweb: who eats whom, and who lives by the sun."""
