@@ -3,11 +3,15 @@
 import unittest
 
 from feedweb import errors
+from feedweb.cuts import cut, felled
+from feedweb.feeding import hangs_on, levels, living
+from feedweb.islands import joined
 from feedweb.needs import ways_of
+from feedweb.notes import read
 from feedweb.web import Web
+from tests.helper import SIXTEEN, SUN, all_of, web_by, web_of
 
 REFUSALS = ("NoName", "Twice", "Full", "NoKind", "TooLarge", "NotPlain", "NoNote")
-SUN = ("sun",)
 
 
 def class_refusing(deed, *arguments):
@@ -19,10 +23,7 @@ def class_refusing(deed, *arguments):
 
 
 def full_web():
-    web = Web()
-    for letter in "abcdefghijklmnop":
-        web.add(letter, SUN)
-    return web
+    return web_by([(name, SUN) for name in SIXTEEN])
 
 
 class ErrorClasses(unittest.TestCase):
@@ -66,6 +67,24 @@ class EachRefusalOfItsOwnClass(unittest.TestCase):
         need = ("any", (("all", tuple(("eats", letter) for letter in "abcd")),
                         ("all", tuple(("eats", letter) for letter in "efg"))))
         self.assertIs(class_refusing(ways_of, need), errors.TooLarge)
+        self.assertIs(class_refusing(felled, full_web(), "a"), errors.TooLarge)
+
+    def test_no_kind_elsewhere(self):
+        for deed in (hangs_on, cut, felled):
+            self.assertIs(class_refusing(deed, full_web(), "fox"), errors.NoKind)
+        for deed in (levels, living):
+            self.assertIs(class_refusing(deed, full_web(), ["a", "fox"]), errors.NoKind)
+
+    def test_twice_and_full_at_joined(self):
+        self.assertIs(class_refusing(joined, full_web(), full_web()), errors.Twice)
+        self.assertIs(class_refusing(joined, full_web(), web_of(fox=SUN)), errors.Full)
+
+    def test_not_plain(self):
+        self.assertIs(class_refusing(cut, web_of(fox=all_of(SUN)), "fox"), errors.NotPlain)
+
+    def test_no_note(self):
+        for text in ("fox", "sun: sun", "fox: sun\nfox: sun", "\n".join(f"a{name}: sun" for name in SIXTEEN + ["q"])):
+            self.assertIs(class_refusing(read, text), errors.NoNote)
 
 
 if __name__ == "__main__":

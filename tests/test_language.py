@@ -46,7 +46,8 @@ class Language(unittest.TestCase):
                     yield node, f"{path.name}:{node.lineno}"
 
     def test_the_files_are_found(self):
-        self.assertTrue({"__init__.py", "errors.py", "needs.py", "web.py"} <= {path.name for path in FILES})
+        named = {"__init__", "errors", "needs", "web", "feeding", "cuts", "islands", "notes"}
+        self.assertTrue(named <= {path.stem for path in FILES})
 
     def test_nothing_else_lies_in_the_package(self):
         for path in PACKAGE.rglob("*"):
@@ -97,6 +98,40 @@ class Language(unittest.TestCase):
                 self.assertIsInstance(node.ctx, ast.Load, place)
         for node, place in self.each_node(ast.arg):
             self.assertFalse(hasattr(builtins, node.arg), place)
+
+    def test_no_parameter_and_no_local_is_called_like_an_import_or_a_def_of_its_file(self):
+        for path in FILES:
+            tree = tree_of(path)
+            imported = [alias.name for node in tree.body if isinstance(node, ast.ImportFrom) for alias in node.names]
+            defined = [node.name for node in tree.body if isinstance(node, (ast.FunctionDef, ast.ClassDef))]
+            for node in ast.walk(tree):
+                stored = isinstance(node, ast.Name) and isinstance(node.ctx, ast.Store) and node.id
+                name = node.arg if isinstance(node, ast.arg) else stored
+                self.assertNotIn(name, imported + defined, path)
+
+    def test_no_two_files_draw_from_one_another(self):
+        drawn = {path.stem: {node.module.split(".")[-1] for node in tree_of(path).body if isinstance(node, ast.ImportFrom)}
+                 for path in FILES}
+        while drawn:
+            free = [name for name in drawn if not drawn[name] & set(drawn)]
+            self.assertTrue(free, drawn)
+            for name in free:
+                drawn.pop(name)
+
+    def test_comprehensions_and_f_strings(self):
+        for path in FILES:
+            for node in ast.walk(tree_of(path)):
+                if isinstance(node, ast.ListComp):
+                    self.assertEqual(len(node.generators), 1, path)
+                    self.assertLessEqual(len(node.generators[0].ifs), 1, path)
+                if isinstance(node, ast.FormattedValue):
+                    self.assertIsInstance(node.value, ast.Name, path)
+                    self.assertIsNone(node.format_spec, path)
+                    self.assertIn(node.conversion, (-1, ord("r")), path)
+
+    def test_no_error_of_pythons_own_is_taken(self):
+        for node, place in self.each_node(ast.ExceptHandler):
+            self.assertFalse(hasattr(builtins, ast.unparse(node.type)), place)
 
     def test_methods_of_pythons_own_values(self):
         own = {name for path in FILES for name in bound_names(tree_of(path))}

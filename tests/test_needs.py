@@ -5,41 +5,11 @@ import unittest
 
 from feedweb.errors import TooLarge
 from feedweb.needs import is_met, names_of, ways_of
-
-SUN = ("sun",)
-
-
-def eats(name):
-    return ("eats", name)
-
-
-def any_of(*parts):
-    return ("any", parts)
-
-
-def all_of(*parts):
-    return ("all", parts)
-
-
-def some_of(number, *parts):
-    return ("some", number, parts)
-
-
-def eaters(letters):
-    return tuple(eats(letter) for letter in letters)
-
+from tests.helper import SUN, all_of, any_of, eaters, eats, groups, meets, sets_of, some_of
 
 A, B, C, D, E, F, G, H = eaters("abcdefgh")
 FOX = any_of(eats("hare"), some_of(2, eats("egg"), eats("mouse"), all_of(eats("vole"), SUN)))
 DEEPEST = any_of(all_of(some_of(1, any_of(B, A), C), A), D)
-
-
-def groups(parts):
-    """Every any, all and some of these parts."""
-    yield any_of(*parts)
-    yield all_of(*parts)
-    for number in range(1, len(parts) + 1):
-        yield some_of(number, *parts)
 
 
 def needs_of_two_layers():
@@ -67,30 +37,11 @@ def all_needs():
     return itertools.chain([SUN, A], needs_of_two_layers(), needs_of_three_layers(), needs_of_more_layers())
 
 
-def sets_of(names):
-    for size in range(len(names) + 1):
-        yield from itertools.combinations(names, size)
-
-
 def names_by_text(need):
     """Another way to the names: the texts of the need from the left, each behind the word eats."""
     flat = repr(need).replace("(", " ").replace(")", " ").replace(",", " ").split()
     behind_eats = [text.strip("'") for word, text in zip(flat, flat[1:]) if word == "'eats'"]
     return list(dict.fromkeys(behind_eats))
-
-
-def meets(need, alive):
-    """Point 3, word by word."""
-    if need[0] == "sun":
-        return True
-    if need[0] == "eats":
-        return need[1] in alive
-    met = [meets(part, alive) for part in need[-1]]
-    if need[0] == "any":
-        return any(met)
-    if need[0] == "all":
-        return all(met)
-    return met.count(True) >= need[1]
 
 
 def ways_by_all_sets(need):

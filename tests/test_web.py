@@ -5,10 +5,9 @@ import unittest
 
 from feedweb.errors import Full, NoKind, NoName, Twice
 from feedweb.web import Web
+from tests.helper import SIXTEEN, SUN, held
 
-SUN = ("sun",)
 NEST = ("any", (("eats", "hare"), ("some", 1, (("eats", "egg"), ("all", (("eats", "vole"), SUN))))))
-SIXTEEN = list("abcdefghijklmnop")
 GOOD_NAMES = ["a", "z", "fox", "abcdefgh", "stuvwxyz", "zzzzzzzz", "eats", "some", "anys", "al", "off", "o", "suns"]
 KEPT_WORDS = ["any", "all", "of", "sun"]
 BAD_NAMES = ["", "abcdefghi", "Fox", "foX", "FOX", "A", "fox1", "1", "1fox", "a b", " fox", "fox ", " ", "fox-a", "fo_x",
@@ -20,10 +19,6 @@ def web_of(names):
     for name in names:
         web.add(name, ("eats", name))
     return web
-
-
-def held(web):
-    return [(name, web.need_of(name)) for name in web.kinds()]
 
 
 class Adding(unittest.TestCase):
